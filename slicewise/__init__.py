@@ -1,0 +1,1 @@
+"""Slicewise: what of a program matters."""
