@@ -8,6 +8,8 @@ MOST_PARTS = 4
 RECKONINGS = ("plus", "minus", "times", "over", "rest", "less", "same")
 DIVISIONS = ("over", "rest")
 NAME_MAKERS = ("put", "do", "new", "get", "call")
+# Rows that are never done themselves: no doing is told of them, and nothing leans on them.
+SILENT = ("else", "end", "skip")
 
 
 def is_number(thing):
@@ -67,7 +69,7 @@ FORMS = {
     "skip": (),
 }
 
-# Where in a row the parts stand whose names it uses; a call has them in a tuple of their own.
+# Where in a row its operands and its key stand; a call has its operands in a tuple of their own.
 USED_PLACES = {
     "give": (1,),
     "put": (2,),
@@ -92,12 +94,17 @@ def class_of(key):
     return key if is_field(key) else "#"
 
 
-def uses(row):
+# The operands of a row in the order in which a run tells their values (R and a K that is no field
+# are among them).
+def operands(row):
     if row[0] == "call":
-        parts = row[3]
-    else:
-        parts = [row[place] for place in USED_PLACES.get(row[0], ())]
-    return sorted(set([part for part in parts if is_name(part)]))
+        return list(row[3])
+    parts = [row[place] for place in USED_PLACES.get(row[0], ())]
+    return [part for part in parts if not is_field(part)]
+
+
+def uses(row):
+    return sorted(set([part for part in operands(row) if is_name(part)]))
 
 
 def makes(row):

@@ -21,6 +21,7 @@ NO_WORDS = re.compile(
     r"|NamedTuple|TypedDict|TYPE_CHECKING|abstractmethod)\b|dataclass|overload|contextmanager")
 NO_NAMES = set("register mro elements open input version_info with_traceback add_note".split())
 TWO_UNDERSCORES = set("__init__ __eq__ __repr__ __str__ __len__".split())
+CHANGING = set("append clear extend insert pop remove reverse setdefault update".split())
 WALKED = set("zip enumerate reversed range".split())
 NODES = set(
     "Module FunctionDef ClassDef arguments arg Return Assign AugAssign For While If Raise Try ExceptHandler Expr Pass"
@@ -134,9 +135,25 @@ def check_attribute(node, own, parents):
         yield node.lineno, "L25 a method or value of another kind"
 
 
-def check_nodes(tree):
-    own = {part.attr for part in ast.walk(tree) if isinstance(part, ast.Attribute) and isinstance(part.ctx, ast.Store)}
-    own |= {part.name for part in ast.walk(tree) if isinstance(part, ast.FunctionDef)}
+def own_values(tree):
+    return {part.attr for part in ast.walk(tree) if isinstance(part, ast.Attribute) and isinstance(part.ctx, ast.Store)}
+
+
+def own_methods(tree):
+    classes = [node for node in tree.body if isinstance(node, ast.ClassDef)]
+    return {part.name for node in classes for part in node.body if isinstance(part, ast.FunctionDef)}
+
+
+def check_own(values):
+    for kind in (str, int, list, dict, set, bytes, tuple):
+        for name in values & set(dir(kind)) - {"count", "index", "title", "find", "get", "join", "lower", "upper", "split",
+                                               "strip", "copy", "add"}:
+            yield 0, f"L26 a value called {name}"
+
+
+def check_nodes(tree, values):
+    own = own_values(tree) | own_methods(tree) | values
+    yield from check_own(own_values(tree))
     bound = {part.id for part in ast.walk(tree) if isinstance(part, ast.Name) and isinstance(part.ctx, ast.Store)}
     parents = {part: node for node in ast.walk(tree) for part in ast.iter_child_nodes(node)}
     for node in ast.walk(tree):
@@ -189,9 +206,50 @@ def check_small(node, parents):
             yield node.lineno, "L20 is beside something else"
 
 
-def faults(text):
+def root_name(node):
+    while isinstance(node, (ast.Attribute, ast.Subscript)):
+        node = node.value
+    return node.id if isinstance(node, ast.Name) else None
+
+
+def walked_names(node):
+    """The names of what a loop walks, itself or through enumerate, zip, reversed, items."""
+    if isinstance(node, ast.Call) and isinstance(node.func, ast.Name) and node.func.id in ("enumerate", "zip", "reversed"):
+        return {name for part in node.args for name in walked_names(part)}
+    if isinstance(node, ast.Call) and isinstance(node.func, ast.Attribute) and node.func.attr in ("items", "keys", "values"):
+        return walked_names(node.func.value)
+    return {ast.unparse(node)} if isinstance(node, (ast.Name, ast.Attribute)) else set()
+
+
+def check_loops(tree):
+    for loop in [node for node in ast.walk(tree) if isinstance(node, ast.For)]:
+        walked = walked_names(loop.iter)
+        for node in [part for row in loop.body for part in ast.walk(row)]:
+            if isinstance(node, ast.Call) and isinstance(node.func, ast.Attribute) and node.func.attr in CHANGING:
+                if ast.unparse(node.func.value) in walked:
+                    yield node.lineno, "L23 what a loop walks is changed in it"
+            if isinstance(node, ast.Subscript) and isinstance(node.ctx, ast.Store) and ast.unparse(node.value) in walked:
+                yield node.lineno, "L23 what a loop walks is changed in it"
+
+
+def check_kept(tree):
+    """Lists and dicts of the file's top are only read."""
+    kept = {node.targets[0].id for node in tree.body if isinstance(node, ast.Assign)
+            and isinstance(node.value, (ast.List, ast.Dict))}
+    for node in ast.walk(tree):
+        if isinstance(node, ast.Call) and isinstance(node.func, ast.Attribute) and node.func.attr in CHANGING:
+            if root_name(node.func.value) in kept:
+                yield node.lineno, "L15 a list or dict of the top is changed"
+        if isinstance(node, ast.Subscript) and isinstance(node.ctx, ast.Store) and root_name(node.value) in kept:
+            yield node.lineno, "L15 a list or dict of the top is changed"
+        if isinstance(node, ast.Return) and isinstance(node.value, ast.Name) and node.value.id in kept:
+            yield node.lineno, "L15 a list or dict of the top is given back"
+
+
+def faults(text, values=frozenset()):
     tree = ast.parse(text)
-    return sorted(set(list(check_signs(text)) + list(check_top(tree)) + list(check_nodes(tree))))
+    told = list(check_signs(text)) + list(check_top(tree)) + list(check_nodes(tree, set(values)))
+    return sorted(set(told + list(check_loops(tree)) + list(check_kept(tree))))
 
 
 def drawn(text):
@@ -207,9 +265,29 @@ class Package(unittest.TestCase):
         for path in self.files():
             self.assertTrue(path.is_file() and re.fullmatch(r"[a-z][a-z0-9_]*\.py|__init__\.py", path.name), path)
 
+    def trees(self):
+        return {"slicewise." + path.stem: ast.parse(path.read_text(encoding="utf-8")) for path in self.files()}
+
     def test_each_file(self):
+        values = {name for tree in self.trees().values() for name in own_values(tree)}
         for path in self.files():
-            self.assertEqual(faults(path.read_text(encoding="utf-8")), [], path.name)
+            self.assertEqual(faults(path.read_text(encoding="utf-8"), values), [], path.name)
+
+    def test_no_name_is_a_method_and_a_value(self):
+        values = {name for tree in self.trees().values() for name in own_values(tree)}
+        methods = {name for tree in self.trees().values() for name in own_methods(tree)}
+        self.assertEqual(values & methods, set())
+
+    def test_names_are_drawn_from_the_file_that_defines_them(self):
+        trees = self.trees()
+        for name, tree in trees.items():
+            for row in [row for row in tree.body if isinstance(row, ast.ImportFrom)]:
+                defined = [part for part in trees[row.module].body if not isinstance(part, (ast.ImportFrom, ast.Expr))]
+                names = {part.targets[0].id if isinstance(part, ast.Assign) else part.name for part in defined}
+                for part in row.names:
+                    self.assertIn(part.name, names, name)
+                    used = [node for node in ast.walk(tree) if isinstance(node, ast.Name) and node.id == part.name]
+                    self.assertTrue(used, f"{name} draws {part.name} for nothing")
 
     def test_no_two_files_draw_from_one_another(self):
         left = {"slicewise." + path.stem: drawn(path.read_text(encoding="utf-8")) for path in self.files()}
@@ -235,7 +313,10 @@ class Checker(unittest.TestCase):
             ("# type\n", "L17"), ("A = '\u00e9'\n", "L14"), ("A = 'a%b'\n", "L27"), ("def _f():\n    pass\n", "L12"),
             ("def f(a):\n    return a is 'x'\n", "L20"), ("def f(a):\n    a.sort()\n", "L25"),
             ("def f(a):\n    b = set(a)\n    return b\n", "L24"), ("def f(a):\n    return zip(a, a)\n", "L23"),
-            ("class A:\n    b = 1\n", "L5"), ("#" * 121 + "\n", "L10"), ("def f():\n" + "    g()\n" * 40, "L10"),
+            ("class A:\n    b = 1\n", "L5"), ("def f(a):\n    for b in a:\n        a.append(b)\n", "L23"),
+            ("def f(a):\n    for b, c in a.items():\n        a[b] = c\n", "L23"),
+            ("A = {}\n\n\ndef f(a):\n    A[a] = 1\n", "L15"), ("A = []\n\n\ndef f(a):\n    A.append(a)\n", "L15"),
+            ("A = []\n\n\ndef f():\n    return A\n", "L15"), ("def f(a):\n    a.items = 1\n", "L26"), ("#" * 121 + "\n", "L10"), ("def f():\n" + "    g()\n" * 40, "L10"),
         ]:
             self.assertIn(rule, [fault.split()[0] for number, fault in faults(text)], text)
 

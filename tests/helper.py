@@ -1,0 +1,186 @@
+"""What several tests share: programs written by hand, and programs, inputs and sets drawn from a seed."""
+
+import random
+
+from slicewise.programs import program_of, shape
+
+H = 10 ** 30
+SILENT = ("else", "end", "skip")
+FIELDS = [".a", ".b"]
+NUMBERS = [-2, -1, 0, 0, 1, 1, 2, 3, H - 1, -H]
+
+
+def rows_of(text):
+    """A program written in lines, with any blanks ahead; words as in the document, '/' between rows too."""
+    program = []
+    for line in text.replace("/", "\n").split("\n"):
+        words = line.split()
+        if words:
+            program.append(row_of(words))
+    return program_of(program)
+
+
+def row_of(words):
+    parts = [int(word) if word.lstrip("-").isdigit() else word for word in words]
+    if parts[0] == "def":
+        return tuple(parts[:2]) + (tuple(parts[2:]),)
+    if parts[0] == "call":
+        return tuple(parts[:3]) + (tuple(parts[3:]),)
+    return tuple(parts)
+
+
+class Drawer:
+    """Draws a program: few names and few fields, so that rows have much to do with one another."""
+
+    def __init__(self, chance):
+        self.chance = chance
+        self.names = chance.choice([["x", "y", "r"], ["x", "y", "r", "q"], ["x", "r", "q", "s", "t"]])
+        self.rows = []
+        self.functions = []
+        self.at = 0
+        self.room = 0
+
+    def name(self):
+        return self.chance.choice(self.names)
+
+    def operand(self):
+        return self.name() if self.chance.random() < 0.7 else self.chance.choice(NUMBERS)
+
+    def key(self):
+        return self.chance.choice(FIELDS + FIELDS + [self.name(), self.chance.choice([0, 1])])
+
+    def plain(self):
+        word = self.chance.choices(
+            ["put", "do", "new", "get", "set", "call", "fail", "skip"], [4, 6, 3, 5, 5, 4, 0.4, 0.5])[0]
+        if word == "put":
+            return ("put", self.name(), self.operand())
+        if word == "do":
+            reckoning = self.chance.choices(
+                ["plus", "minus", "times", "over", "rest", "less", "same"], [4, 4, 2, 1, 1, 2, 2])[0]
+            return ("do", self.name(), self.operand(), reckoning, self.operand())
+        if word == "new":
+            return ("new", self.name())
+        if word == "get":
+            return ("get", self.name(), self.name(), self.key())
+        if word == "set":
+            return ("set", self.name(), self.key(), self.operand())
+        if word == "call":
+            further = self.functions[self.at + 1:]
+            if not further:
+                return ("put", self.name(), self.name())
+            function, parameters = self.chance.choice(further)
+            return ("call", self.name(), function, tuple(self.operand() for part in parameters))
+        return ("fail", self.chance.choice(["bad", "zero", "off"])) if word == "fail" else ("skip",)
+
+    def block(self, depth):
+        for turn in range(self.chance.randint(0 if depth else 2, 5)):
+            if self.room < 4:
+                return
+            chosen = self.chance.random()
+            if depth < 3 and chosen < 0.16:
+                self.choice(depth)
+            elif depth < 3 and chosen < 0.28:
+                self.loop(depth)
+            else:
+                self.add(self.plain())
+
+    def choice(self, depth):
+        self.add(("if", self.operand()))
+        self.room -= 2
+        self.block(depth + 1)
+        if self.chance.random() < 0.6:
+            self.rows.append(("else",))
+            self.block(depth + 1)
+        self.rows.append(("end",))
+
+    def loop(self, depth):
+        name = self.name()
+        self.add(("while", name if self.chance.random() < 0.9 else self.operand()))
+        self.room -= 2
+        self.block(depth + 1)
+        if self.chance.random() < 0.6:
+            self.rows.append(("do", name, name, "minus", 1))
+        self.rows.append(("end",))
+
+    def add(self, row):
+        self.rows.append(row)
+        self.room -= 1
+
+    def drawn(self):
+        count = self.chance.choice([1, 1, 2, 2, 2, 3, 3, 3])
+        for function in ["main", "f", "g"][:count]:
+            parameters = tuple(self.chance.sample(self.names, self.chance.randint(0, 3)))
+            self.functions.append((function, parameters))
+        for self.at, (function, parameters) in enumerate(self.functions):
+            self.rows += [("skip",)] * (self.chance.random() < 0.2)
+            self.rows.append(("def", function, parameters))
+            self.room = 56 // count - 4
+            self.block(0)
+            self.rows.append(("give", self.operand()))
+        return program_of(self.rows)
+
+
+def programs(count, seed):
+    chance = random.Random(seed)
+    return [Drawer(chance).drawn() for turn in range(count)]
+
+
+def inputs_of(chance):
+    return [chance.choice([0, 1, 2, 3, -1, 5, H, -H]) for turn in range(chance.randint(0, 3))]
+
+
+def leaning(program):
+    """The rows that sets may have: those of functions that are no else, end, skip."""
+    homes = shape(program)[3]
+    return [place for place, row in enumerate(program) if homes[place] is not None and row[0] not in SILENT]
+
+
+def set_of(rows):
+    return sum(1 << row for row in set(rows))
+
+
+def members(rows):
+    return [row for row in range(rows.bit_length()) if rows >> row & 1]
+
+
+def some_rows(chance, program, most=3):
+    rows = leaning(program)
+    return set_of(chance.sample(rows, min(len(rows), chance.randint(1, most)))) if rows else 0
+
+
+NO_FUNCTIONS = [[], [("skip",)], [("skip",)] * 60]
+
+# A program with all words of rows, records shared between names and functions, and loops within choices.
+ALL_WORDS = rows_of("""
+    skip
+    def main a b
+      new r
+      put q r
+      set q .n a
+      set r 1 b
+      while a
+        do a a minus 1
+        if b
+          get x r .n
+          call y add x r
+        else
+          skip
+          do y a over b
+        end
+      end
+      get z q b
+      if z
+        fail bad
+      end
+    give y
+    skip
+    def add n c
+      do m n plus 2
+      set c .n m
+      call o both m c
+    give o
+    def both one two
+      get t two .n
+      do t t same one
+    give t
+""")
