@@ -51,7 +51,7 @@ class Drawer:
 
     def plain(self):
         word = self.chance.choices(
-            ["put", "do", "new", "get", "set", "call", "fail", "skip"], [4, 6, 3, 5, 5, 4, 0.4, 0.5])[0]
+            ["put", "do", "new", "get", "set", "call", "fail", "skip"], [4, 6, 4, 5, 5, 4, 0.3, 0.5])[0]
         if word == "put":
             return ("put", self.name(), self.operand())
         if word == "do":
@@ -73,7 +73,8 @@ class Drawer:
         return ("fail", self.chance.choice(["bad", "zero", "off"])) if word == "fail" else ("skip",)
 
     def block(self, depth):
-        for turn in range(self.chance.randint(0 if depth else 2, 5)):
+        least, most = (0, 5) if depth else (4, 10)
+        for turn in range(self.chance.randint(least, most)):
             if self.room < 4:
                 return
             chosen = self.chance.random()
@@ -184,3 +185,67 @@ ALL_WORDS = rows_of("""
       do t t same one
     give t
 """)
+
+
+class Traced:
+    """A second reader of what each doing came from: it goes down into calls along the doings of a run."""
+
+    def __init__(self, program, doings):
+        self.program = program
+        self.doings = doings
+        self.heads = shape(program)[0]
+        self.told = []
+        self.writers = []
+        if doings:
+            self.function(None)
+
+    def function(self, begun_by):
+        """From a def's doing on; tells the index of the give, or None where the run ends ahead of it."""
+        made, lasts = {}, {}
+        while len(self.told) < len(self.doings):
+            index = len(self.told)
+            place, used, value = self.doings[index]
+            row = self.program[place]
+            self.told.append(sorted(self.links(row, place, used, made, lasts, begun_by)))
+            lasts[place] = index
+            if row[0] == "give":
+                return index
+            if row[0] == "call":
+                given = self.function(index) if index + 1 < len(self.doings) else None
+                if given is not None:
+                    made[row[1]] = given
+            elif row[0] == "set":
+                self.writers.append((used[0], self.key(row[2], used), index))
+            else:
+                for name in row[2] if row[0] == "def" else row[1:2] if row[0] in ("put", "do", "new", "get") else ():
+                    made[name] = index
+        return None
+
+    def key(self, key, used):
+        if isinstance(key, str) and key.startswith("."):
+            return key
+        return 0 if isinstance(used[1], tuple) else used[1]
+
+    def links(self, row, place, used, made, lasts, begun_by):
+        for name in set(self.used_names(row)):
+            if name in made:
+                yield made[name], "name", name
+        if self.heads[place] is not None:
+            yield lasts[self.heads[place]], "head", ""
+        if row[0] == "def" and begun_by is not None:
+            yield begun_by, "call", row[1]
+        if row[0] == "get" and isinstance(used[0], tuple):
+            wanted = (used[0], self.key(row[3], used))
+            found = [index for record, key, index in self.writers if (record, key) == wanted]
+            if found:
+                kind = row[3] if isinstance(row[3], str) and row[3].startswith(".") else "#"
+                yield found[-1], "cell", kind
+
+    def used_names(self, row):
+        parts = {"give": row[1:], "put": row[2:], "do": row[2:3] + row[4:], "get": row[2:], "set": row[1:], "if": row[1:],
+                 "while": row[1:], "call": row[3] if len(row) > 3 else ()}.get(row[0], ())
+        return [part for part in parts if isinstance(part, str) and not part.startswith(".")]
+
+
+def traced(program, doings):
+    return Traced(program, doings).told
