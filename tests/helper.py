@@ -249,3 +249,139 @@ class Traced:
 
 def traced(program, doings):
     return Traced(program, doings).told
+
+
+class Over(Exception):
+    pass
+
+
+class Second:
+    """A second reader of runs: it goes down into blocks and calls, where the program goes along the rows."""
+
+    def __init__(self, program, most, poke=None):
+        self.program = program
+        self.most = most
+        self.poke = poke
+        self.doings = []
+        self.made_records = {}
+        self.records = {}
+
+    def told(self, inputs):
+        starts = [place for place, row in enumerate(self.program) if row[0] == "def"]
+        if not starts:
+            return [], ("done", 0)
+        parameters = self.program[starts[0]][2]
+        given = [(number + H) % (2 * H) - H for number in inputs] + [0] * len(parameters)
+        try:
+            return self.doings, ("done", self.function(starts[0], given[:len(parameters)]))
+        except Over as over:
+            return self.doings, over.args[0]
+
+    def does(self, place, used, made):
+        """Tells what was made, which a poke makes another one."""
+        if len(self.doings) == self.most:
+            raise Over(("cut", 0))
+        if self.poke and self.poke[0] == len(self.doings):
+            made = (self.poke[1] + H) % (2 * H) - H
+        self.doings.append((place, tuple(used), made))
+        return made
+
+    def function(self, start, given):
+        self.does(start, given, None)
+        names = dict(zip(self.program[start][2], given))
+        place = self.block(start + 1, names)
+        value = self.value(names, self.program[place][1])
+        return self.does(place, [value], value)
+
+    def value(self, names, operand):
+        return names.get(operand, 0) if isinstance(operand, str) else operand
+
+    def closing(self, place):
+        """The first row from this one on that ends, or parts, the block that it stands in."""
+        depth = 0
+        while depth or self.program[place][0] not in ("else", "end", "give"):
+            depth += {"if": 1, "while": 1, "end": -1}.get(self.program[place][0], 0)
+            place += 1
+        return place
+
+    def block(self, place, names):
+        while self.program[place][0] not in ("else", "end", "give"):
+            row = self.program[place]
+            if row[0] == "if":
+                place = self.choice(place, names)
+            elif row[0] == "while":
+                while self.asked(place, names):
+                    self.block(place + 1, names)
+                place = self.closing(place + 1)
+            elif row[0] != "skip":
+                self.plain(place, row, names)
+            place += 1
+        return place
+
+    def asked(self, place, names):
+        value = self.value(names, self.program[place][1])
+        self.does(place, [value], 1 if value != 0 else 0)
+        return value != 0
+
+    def choice(self, place, names):
+        middle = self.closing(place + 1)
+        last = self.closing(middle + 1) if self.program[middle][0] == "else" else middle
+        if self.asked(place, names):
+            self.block(place + 1, names)
+        elif last != middle:
+            self.block(middle + 1, names)
+        return last
+
+    def plain(self, place, row, names):
+        getattr(self, "row_" + row[0])(place, names, *row[1:])
+
+    def row_put(self, place, names, name, operand):
+        value = self.value(names, operand)
+        names[name] = self.does(place, [value], value)
+
+    def row_do(self, place, names, name, one, word, other):
+        used = [self.value(names, one), self.value(names, other)]
+        left, right = [0 if isinstance(value, tuple) else value for value in used]
+        if word in ("over", "rest") and right == 0:
+            self.does(place, used, None)
+            raise Over(("fault", "zero"))
+        made = {"plus": lambda: left + right, "minus": lambda: left - right, "times": lambda: left * right,
+                "over": lambda: left // right, "rest": lambda: left - right * (left // right),
+                "less": lambda: int(left < right), "same": lambda: int(used[0] == used[1])}[word]()
+        while not -H <= made < H:
+            made -= (made // (2 * H) or 1) * 2 * H
+        names[name] = self.does(place, used, made)
+
+    def row_new(self, place, names, name):
+        count = self.made_records.get(place, 0)
+        names[name] = self.does(place, [], (place, count))
+        self.made_records[place] = count + 1
+        self.records[(place, count)] = {}
+
+    def cell(self, names, record, key):
+        if isinstance(key, str) and key[0] == ".":
+            return [self.value(names, record)], key
+        used = [self.value(names, record), self.value(names, key)]
+        return used, 0 if isinstance(used[1], tuple) else used[1]
+
+    def row_get(self, place, names, name, record, key):
+        used, key = self.cell(names, record, key)
+        made = self.records[used[0]].get(key, 0) if isinstance(used[0], tuple) else 0
+        names[name] = self.does(place, used, made)
+
+    def row_set(self, place, names, record, key, operand):
+        used, key = self.cell(names, record, key)
+        value = self.value(names, operand)
+        value = self.does(place, used + [value], value)
+        if isinstance(used[0], tuple):
+            self.records[used[0]][key] = value
+
+    def row_call(self, place, names, name, function, operands):
+        used = [self.value(names, operand) for operand in operands]
+        self.does(place, used, None)
+        start = [at for at, row in enumerate(self.program) if row[:2] == ("def", function)][0]
+        names[name] = self.function(start, used)
+
+    def row_fail(self, place, names, word):
+        self.does(place, [], None)
+        raise Over(("fault", word))
