@@ -34,7 +34,7 @@ def is_wanted(wanted, came):
 
 # One round: tells the numbers that are left behind it, and adds its tries.
 def left_of_round(whole, left, ending, wanted, tries):
-    told = list(left)
+    told = left
     for number in reversed(left):
         others = [other for other in told if other != number]
         came = came_of_parts(whole, others, ending)

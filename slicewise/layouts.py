@@ -6,7 +6,7 @@ from slicewise.programs import first_defs, shape
 class Layout:
     def __init__(self, program):
         parts = shape(program)
-        self.program = list(program)
+        self.program = program
         self.heads = parts[0]
         self.ends = parts[1]
         self.elses = parts[2]

@@ -9,10 +9,11 @@ from slicewise.rows import class_of, makes, uses
 
 def paper(program, table, rows, row):
     layout = Layout(program)
+    spreads = dict([(name, comes_to(program, row, name)) for name in makes(program[row])])
     told = []
     for near, word, what in claims(layout, rows, row):
         if word == "over":
-            told.append((near, word, what, comes_to(program, row, what), 0))
+            told.append((near, word, what, spreads[what], 0))
         else:
             told.append((near, word, what, records_at(layout, table, near, 2), records_at(layout, table, row, 1)))
     return told

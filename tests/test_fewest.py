@@ -125,6 +125,39 @@ class Fewest(unittest.TestCase):
         parts[0].append(7)
         self.assertEqual(told[0], [[1], [2]])
 
+    def test_lists_within_tuples_and_dicts(self):
+        parts = [("a", [1]), {"k": [2]}, [({"k": [3]},)]]
+        kept = copy.deepcopy(parts)
+
+        def change(some):
+            for part in some:
+                inner = part[1] if isinstance(part, tuple) else part["k"] if isinstance(part, dict) else part[0][0]["k"]
+                inner.append(9)
+
+        def ending(some):
+            came = copy.deepcopy(some)
+            change(some)
+            return came
+
+        def wanted(came):
+            change(came)
+            return True
+        told = fewest(parts, ending, wanted)
+        self.assertEqual(told, ([], [(2, kept[:2], True), (1, kept[:1], True), (0, [], True)]))
+        told = fewest(parts, ending, lambda came: len(came) == 3)
+        self.assertEqual(told[0], kept)
+        change(parts)
+        self.assertEqual(told[0], kept)
+
+    def test_one_list_that_is_told_again_and_again(self):
+        same = []
+
+        def ending(some):
+            same[:] = some
+            return same
+        self.assertEqual(fewest([1, 2], ending, lambda came: 1 in came),
+                         ([1], [(1, [1], True), (0, [], False), (0, [], False)]))
+
     def test_the_parts_changed_while_it_runs(self):
         parts = [1, 2, 3]
 
